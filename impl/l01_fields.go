@@ -233,7 +233,11 @@ func CommutatorOf(a Matrix, b Matrix) (Matrix, bool) {
 	if !squareOk(a) || !squareOk(b) || a.P != b.P || a.Rows != b.Rows {
 		return Matrix{}, false
 	}
-	return addMultiple(product(a, b), a.P-1, product(b, a)), true
+	return commutator(a, b), true
+}
+
+func commutator(a Matrix, b Matrix) Matrix {
+	return addMultiple(product(a, b), a.P-1, product(b, a))
 }
 
 func TraceOf(a Matrix) (int, bool) {

@@ -67,6 +67,8 @@ func (r results) lists() [][]int {
 			list = append(list, y)
 		case impl.Matrix:
 			list = append(list, y.Data)
+		case impl.Algebra:
+			list = append(list, y.Table)
 		}
 	}
 	return list
@@ -81,6 +83,9 @@ func (r results) clone() results {
 			copied[i] = append([]int(nil), y...)
 		case impl.Matrix:
 			y.Data = append([]int(nil), y.Data...)
+			copied[i] = y
+		case impl.Algebra:
+			y.Table = append([]int(nil), y.Table...)
 			copied[i] = y
 		default:
 			copied[i] = x
@@ -108,6 +113,8 @@ func (in input) roomy() input {
 func (in input) memory() [][]int {
 	return [][]int{slices.Clone(whole(in.a.Data)), slices.Clone(whole(in.b.Data)), slices.Clone(whole(in.v))}
 }
+
+func (in input) overwrite() { scribble(in.a.Data, in.b.Data, in.v) }
 
 func scribble(lists ...[]int) {
 	for i, list := range lists {
@@ -162,12 +169,23 @@ func TestFunctionsOfInvalidMatrices(t *testing.T) {
 func checkFailure(t *testing.T, call matrixCall, in input) {
 	t.Helper()
 	in = in.roomy()
+	checkFailing(t, call.name, in, call.failure, func() results { return call.run(in) })
+}
+
+// arguments are those of any function of the program.
+type arguments interface {
+	memory() [][]int
+	overwrite()
+}
+
+func checkFailing(t *testing.T, name string, in arguments, failure results, run func() results) {
+	t.Helper()
 	before := in.memory()
-	if got := call.run(in); !got.equal(call.failure) {
-		t.Errorf("%s of %v: %v", call.name, in, got)
+	if got := run(); !got.equal(failure) {
+		t.Errorf("%s of %v: %v", name, in, got)
 	}
 	if !reflect.DeepEqual(in.memory(), before) {
-		t.Errorf("%s has changed %v", call.name, in)
+		t.Errorf("%s has changed %v", name, in)
 	}
 }
 
@@ -198,35 +216,37 @@ func TestFunctionsOfAnything(t *testing.T) {
 func TestArgumentsStayAndMemoryIsNew(t *testing.T) {
 	for _, call := range matrixCalls() {
 		for _, in := range validInputs() {
-			checkMemory(t, call, in.roomy())
+			once := in.roomy()
+			checkMemory(t, call.name, once, func() results { return call.run(once) })
 			twice := in.roomy()
 			twice.b = twice.a
-			checkMemory(t, call, twice)
+			checkMemory(t, call.name, twice, func() results { return call.run(twice) })
 		}
 	}
 }
 
-func checkMemory(t *testing.T, call matrixCall, in input) {
+// checkMemory overwrites the arguments at its end.
+func checkMemory(t *testing.T, name string, in arguments, run func() results) {
 	t.Helper()
 	before := in.memory()
-	first, second := call.run(in), call.run(in)
+	first, second := run(), run()
 	kept := second.clone()
 	if !first.equal(second) || !reflect.DeepEqual(in.memory(), before) {
-		t.Fatalf("%s has changed %v, or gives %v and then %v", call.name, in, first, second)
+		t.Fatalf("%s has changed %v, or gives %v and then %v", name, in, first, second)
 	}
 	lists := first.lists()
 	scribble(lists...)
 	for i, list := range lists {
 		if slices.ContainsFunc(whole(list), func(x int) bool { return x != -1000-i }) {
-			t.Errorf("%s of %v: two results share memory", call.name, in)
+			t.Errorf("%s of %v: two results share memory", name, in)
 		}
 	}
 	if !reflect.DeepEqual(in.memory(), before) || !second.equal(kept) {
-		t.Errorf("%s of %v: a result shares memory with an argument or another result", call.name, in)
+		t.Errorf("%s of %v: a result shares memory with an argument or another result", name, in)
 	}
-	scribble(in.a.Data, in.b.Data, in.v)
+	in.overwrite()
 	if !second.equal(kept) {
-		t.Errorf("%s of %v: a result changes with an argument", call.name, in)
+		t.Errorf("%s of %v: a result changes with an argument", name, in)
 	}
 }
 
