@@ -220,6 +220,10 @@ func TransposeMatrix(a Matrix) Matrix {
 	if !MatrixOk(a) {
 		return Matrix{}
 	}
+	return transpose(a)
+}
+
+func transpose(a Matrix) Matrix {
 	m := zeros(a.P, a.Cols, a.Rows)
 	for i := range a.Rows {
 		for j, x := range rowOf(a, i) {

@@ -26,7 +26,9 @@ type algebraCall struct {
 
 var notAlgebra = results{impl.Algebra{}, false}
 
-func algebraCalls() []algebraCall {
+func algebraCalls() []algebraCall { return append(callsOfTables(), callsOfSeries()...) }
+
+func callsOfTables() []algebraCall {
 	return []algebraCall{
 		{"AlgebraOk", false, func(in algebraInput) results { return results{impl.AlgebraOk(in.a)} }, results{false}},
 		{"BracketOf", false, func(in algebraInput) results { return results{impl.BracketOf(in.a, in.x, in.y)} }, results{[]int(nil)}},
@@ -46,6 +48,29 @@ func algebraCalls() []algebraCall {
 		{"IsHomomorphism", true, func(in algebraInput) results { return results{impl.IsHomomorphism(in.a, in.b, in.t)} }, results{false}},
 		{"FormatAlgebra", false, func(in algebraInput) results { return results{impl.FormatAlgebra(in.a)} }, results{""}},
 		{"EqualAlgebras", true, func(in algebraInput) results { return results{impl.EqualAlgebras(in.a, in.b)} }, results{false}},
+	}
+}
+
+func callsOfSeries() []algebraCall {
+	noMatrices, noLists := results{[]impl.Matrix(nil)}, results{[][]int(nil)}
+	return []algebraCall{
+		{"DerivedSeries", false, func(in algebraInput) results { return results{impl.DerivedSeries(in.a)} }, noMatrices},
+		{"LowerSeries", false, func(in algebraInput) results { return results{impl.LowerSeries(in.a)} }, noMatrices},
+		{"UpperSeries", false, func(in algebraInput) results { return results{impl.UpperSeries(in.a)} }, noMatrices},
+		{"IsSolvable", false, func(in algebraInput) results { return results{impl.IsSolvable(in.a)} }, results{false}},
+		{"ClassOf", false, func(in algebraInput) results { return results{impl.ClassOf(in.a)} }, results{-1}},
+		{"IsPerfect", false, func(in algebraInput) results { return results{impl.IsPerfect(in.a)} }, results{false}},
+		{"KillingForm", false, func(in algebraInput) results { return results{impl.KillingForm(in.a)} }, noMatrix},
+		{"IsInvariant", false, func(in algebraInput) results { return results{impl.IsInvariant(in.a, in.t)} }, results{false}},
+		{"OrthogonalOf", false, func(in algebraInput) results { return pair(impl.OrthogonalOf(in.a, in.t, in.s)) }, notMatrix},
+		{"InvariantForms", false, func(in algebraInput) results { return results{impl.InvariantForms(in.a)} }, noLists},
+		{"IsDerivation", false, func(in algebraInput) results { return results{impl.IsDerivation(in.a, in.t)} }, results{false}},
+		{"Derivations", false, func(in algebraInput) results { return results{impl.Derivations(in.a)} }, noLists},
+		{"InnerDerivations", false, func(in algebraInput) results { return results{impl.InnerDerivations(in.a)} }, noLists},
+		{"IsAutomorphism", false, func(in algebraInput) results { return results{impl.IsAutomorphism(in.a, in.t)} }, results{false}},
+		{"SemidirectBy", false, func(in algebraInput) results { return pair(impl.SemidirectBy(in.a, in.t)) }, notAlgebra},
+		{"IsCocycle", false, func(in algebraInput) results { return results{impl.IsCocycle(in.a, in.t)} }, results{false}},
+		{"ExtendBy", false, func(in algebraInput) results { return pair(impl.ExtendBy(in.a, in.t)) }, notAlgebra},
 	}
 }
 
@@ -103,6 +128,9 @@ func validAlgebraInputs() []algebraInput {
 	for _, p := range []int{2, 5, 10007} {
 		for _, a := range fewAlgebras(p) {
 			b := fewAlgebras(p)[r.IntN(len(fewAlgebras(p)))]
+			for _, m := range []impl.Matrix{adjointBy(a, randomVector(r, p, a.Dim)), coboundaryBy(a, randomVector(r, p, a.Dim)), killingBy(a), constant(p, a.Dim, a.Dim, 0)} {
+				list = append(list, algebraInput{a: a, b: b, s: impl.CentreOf(a), t: m})
+			}
 			for _, s := range []impl.Matrix{impl.UnitMatrix(p, a.Dim), matrixOf(p, 0, a.Dim), impl.CentreOf(a), impl.SpanOf(lowRank(r, p, a.Dim, a.Dim, 1))} {
 				list = append(list, algebraInput{a, b, s, invertible(r, p, a.Dim), randomVector(r, p, a.Dim), randomVector(r, p, a.Dim), scrambledList(r, general(p, 2), singles(p, 2, 0, 1, 2, 3))})
 			}
@@ -205,7 +233,7 @@ func TestFailuresOfValidAlgebras(t *testing.T) {
 			}
 		}
 	}
-	for _, name := range []string{"SumAlgebras", "AlgebraOfMatrices", "ChangeBasis", "ProductSpace", "SubalgebraBy", "IdealBy", "SubTable", "QuotientTable", "CentralizerOf", "NormalizerOf"} {
+	for _, name := range []string{"SumAlgebras", "AlgebraOfMatrices", "ChangeBasis", "ProductSpace", "SubalgebraBy", "IdealBy", "SubTable", "QuotientTable", "CentralizerOf", "NormalizerOf", "OrthogonalOf", "SemidirectBy", "ExtendBy"} {
 		if !failed[name] || !done[name] {
 			t.Error(name, failed[name], done[name])
 		}

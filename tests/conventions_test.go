@@ -53,6 +53,7 @@ func matrixCalls() []matrixCall {
 		{"MeetSpaces", true, func(in input) results { return pair(impl.MeetSpaces(in.a, in.b)) }, notMatrix},
 		{"CoordinatesIn", false, func(in input) results { return pair(impl.CoordinatesIn(in.a, in.v)) }, results{[]int(nil), false}},
 		{"IsSubspace", true, func(in input) results { return results{impl.IsSubspace(in.a, in.b)} }, results{false}},
+		{"ExpMatrix", false, func(in input) results { return pair(impl.ExpMatrix(in.a)) }, notMatrix},
 	}
 }
 
@@ -69,6 +70,12 @@ func (r results) lists() [][]int {
 			list = append(list, y.Data)
 		case impl.Algebra:
 			list = append(list, y.Table)
+		case []impl.Matrix:
+			for _, m := range y {
+				list = append(list, m.Data)
+			}
+		case [][]int:
+			list = append(list, y...)
 		}
 	}
 	return list
@@ -87,9 +94,24 @@ func (r results) clone() results {
 		case impl.Algebra:
 			y.Table = append([]int(nil), y.Table...)
 			copied[i] = y
+		case []impl.Matrix:
+			copied[i] = copyEach(y, func(m impl.Matrix) impl.Matrix {
+				m.Data = append([]int(nil), m.Data...)
+				return m
+			})
+		case [][]int:
+			copied[i] = copyEach(y, func(v []int) []int { return append([]int(nil), v...) })
 		default:
 			copied[i] = x
 		}
+	}
+	return copied
+}
+
+func copyEach[T any](list []T, copyOne func(x T) T) []T {
+	var copied []T
+	for _, x := range list {
+		copied = append(copied, copyOne(x))
 	}
 	return copied
 }
@@ -264,7 +286,7 @@ func TestFailuresOfValidMatrices(t *testing.T) {
 			}
 		}
 	}
-	for _, name := range []string{"AddMatrices", "MulMatrices", "CommutatorOf", "TraceOf", "DeterminantOf", "SolveMatrix", "InverseMatrix", "SumSpaces", "MeetSpaces", "CoordinatesIn"} {
+	for _, name := range []string{"AddMatrices", "MulMatrices", "CommutatorOf", "TraceOf", "DeterminantOf", "SolveMatrix", "InverseMatrix", "SumSpaces", "MeetSpaces", "CoordinatesIn", "ExpMatrix"} {
 		if !failed[name] {
 			t.Error("no failure of", name)
 		}
