@@ -233,6 +233,17 @@ func transpose(a Matrix) Matrix {
 	return m
 }
 
+// columnsBy returns the matrix whose columns are the images of the vectors
+// with a single 1 under image, which must be linear.
+func columnsBy(p int, rows int, cols int, image func(v []int) []int) Matrix {
+	m := zeros(p, cols, rows)
+	units := unit(p, cols)
+	for i := range cols {
+		copy(rowOf(m, i), image(rowOf(units, i)))
+	}
+	return transpose(m)
+}
+
 func CommutatorOf(a Matrix, b Matrix) (Matrix, bool) {
 	if !squareOk(a) || !squareOk(b) || a.P != b.P || a.Rows != b.Rows {
 		return Matrix{}, false
