@@ -70,6 +70,8 @@ func (r results) lists() [][]int {
 			list = append(list, y.Data)
 		case impl.Algebra:
 			list = append(list, y.Table)
+		case impl.Cartan:
+			list = append(list, y.Data)
 		case []impl.Matrix:
 			for _, m := range y {
 				list = append(list, m.Data)
@@ -93,6 +95,9 @@ func (r results) clone() results {
 			copied[i] = y
 		case impl.Algebra:
 			y.Table = append([]int(nil), y.Table...)
+			copied[i] = y
+		case impl.Cartan:
+			y.Data = append([]int(nil), y.Data...)
 			copied[i] = y
 		case []impl.Matrix:
 			copied[i] = copyEach(y, func(m impl.Matrix) impl.Matrix {
