@@ -78,9 +78,26 @@ func (r results) lists() [][]int {
 			}
 		case [][]int:
 			list = append(list, y...)
+		case []impl.Term:
+			for _, term := range y {
+				list = append(list, term.Weight)
+			}
 		}
 	}
 	return list
+}
+
+// overwriteTerms changes the counts and weights of lists of terms, and reports whether two of these lists share memory.
+func (r results) overwriteTerms() bool {
+	isShared := false
+	for i, x := range r {
+		l, _ := x.([]impl.Term)
+		for j := range wholeTerms(l) {
+			isShared = isShared || wholeTerms(l)[j].Count <= -1000
+			wholeTerms(l)[j] = occurs(-1000-i, -7)
+		}
+	}
+	return isShared
 }
 
 // clone also makes nil of empty slices, which are the same by the document.
@@ -106,6 +123,8 @@ func (r results) clone() results {
 			})
 		case [][]int:
 			copied[i] = copyEach(y, func(v []int) []int { return append([]int(nil), v...) })
+		case []impl.Term:
+			copied[i] = copyEach(y, func(term impl.Term) impl.Term { return occurs(term.Count, append([]int(nil), term.Weight...)...) })
 		default:
 			copied[i] = x
 		}
@@ -267,6 +286,9 @@ func checkMemory(t *testing.T, name string, in arguments, run func() results) {
 		if slices.ContainsFunc(whole(list), func(x int) bool { return x != -1000-i }) {
 			t.Errorf("%s of %v: two results share memory", name, in)
 		}
+	}
+	if first.overwriteTerms() {
+		t.Errorf("%s of %v: two lists of terms share memory", name, in)
 	}
 	if !reflect.DeepEqual(in.memory(), before) || !second.equal(kept) {
 		t.Errorf("%s of %v: a result shares memory with an argument or another result", name, in)
