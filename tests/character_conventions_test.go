@@ -41,7 +41,7 @@ func (in characterInput) memory() [][]int {
 
 func (in characterInput) overwrite() {
 	scribble(in.slices()...)
-	results{in.a, in.b}.overwriteTerms()
+	results{in.a, in.b}.overwriteParts()
 }
 
 // characterCall is a function of characters, with its results where it fails: for a matrix that is no Cartan matrix, and for a
@@ -194,27 +194,11 @@ func TestCharacterArgumentsStayAndMemoryIsNew(t *testing.T) {
 
 // TestFailuresOfCharacterFunctions says that all functions that fail give zero values, and each of them fails for something.
 func TestFailuresOfCharacterFunctions(t *testing.T) {
-	failed, done := map[string]bool{}, map[string]bool{}
+	o := noOutcomes()
 	for _, call := range characterCalls() {
 		for _, in := range characterInputs() {
-			got := call.run(in)
-			ok, two := got[len(got)-1].(bool)
-			if !two || len(got) == 1 {
-				continue
-			}
-			if ok {
-				done[call.name] = true
-				continue
-			}
-			failed[call.name] = true
-			if !got.equal(call.failure) {
-				t.Errorf("%s of %v: %v", call.name, in, got)
-			}
+			o.note(t, call.name, in, call.run(in), call.failure)
 		}
 	}
-	for _, name := range []string{"AddCharacters", "MulCharacters", "DoubleCharacter", "SquareParts", "Decompose", "TensorOf", "SubCartan", "BranchTo"} {
-		if !failed[name] || !done[name] {
-			t.Error(name, failed[name], done[name])
-		}
-	}
+	o.mustHaveBoth(t, "AddCharacters", "MulCharacters", "DoubleCharacter", "SquareParts", "Decompose", "TensorOf", "SubCartan", "BranchTo")
 }

@@ -84,17 +84,41 @@ func (r results) lists() [][]int {
 			}
 		}
 	}
+	for _, step := range slices.Concat(r.paths()...) {
+		list = append(list, step.Way)
+	}
 	return list
 }
 
-// overwriteTerms changes the counts and weights of lists of terms, and reports whether two of these lists share memory.
-func (r results) overwriteTerms() bool {
+// paths returns the paths inside of the results.
+func (r results) paths() [][]impl.Step {
+	var list [][]impl.Step
+	for _, x := range r {
+		switch y := x.(type) {
+		case []impl.Step:
+			list = append(list, y)
+		case [][]impl.Step:
+			list = append(list, y...)
+		}
+	}
+	return list
+}
+
+// overwriteParts changes the counts and weights of lists of terms, and the steps of paths, and reports whether two of
+// these lists or paths share memory.
+func (r results) overwriteParts() bool {
 	isShared := false
 	for i, x := range r {
 		l, _ := x.([]impl.Term)
 		for j := range wholeTerms(l) {
 			isShared = isShared || wholeTerms(l)[j].Count <= -1000
 			wholeTerms(l)[j] = occurs(-1000-i, -7)
+		}
+	}
+	for i, p := range r.paths() {
+		for j := range wholePath(p) {
+			isShared = isShared || wholePath(p)[j].Len <= -1000
+			wholePath(p)[j] = goes(-1000-i, -7)
 		}
 	}
 	return isShared
@@ -125,6 +149,10 @@ func (r results) clone() results {
 			copied[i] = copyEach(y, func(v []int) []int { return append([]int(nil), v...) })
 		case []impl.Term:
 			copied[i] = copyEach(y, func(term impl.Term) impl.Term { return occurs(term.Count, append([]int(nil), term.Weight...)...) })
+		case []impl.Step:
+			copied[i] = copyPath(y)
+		case [][]impl.Step:
+			copied[i] = copyEach(y, copyPath)
 		default:
 			copied[i] = x
 		}
@@ -287,8 +315,8 @@ func checkMemory(t *testing.T, name string, in arguments, run func() results) {
 			t.Errorf("%s of %v: two results share memory", name, in)
 		}
 	}
-	if first.overwriteTerms() {
-		t.Errorf("%s of %v: two lists of terms share memory", name, in)
+	if first.overwriteParts() {
+		t.Errorf("%s of %v: two lists of terms or steps share memory", name, in)
 	}
 	if !reflect.DeepEqual(in.memory(), before) || !second.equal(kept) {
 		t.Errorf("%s of %v: a result shares memory with an argument or another result", name, in)
@@ -316,6 +344,38 @@ func TestFailuresOfValidMatrices(t *testing.T) {
 	for _, name := range []string{"AddMatrices", "MulMatrices", "CommutatorOf", "TraceOf", "DeterminantOf", "SolveMatrix", "InverseMatrix", "SumSpaces", "MeetSpaces", "CoordinatesIn", "ExpMatrix"} {
 		if !failed[name] {
 			t.Error("no failure of", name)
+		}
+	}
+}
+
+// outcomes has the functions that have failed for something, and those that have not.
+type outcomes struct{ failed, done map[string]bool }
+
+func noOutcomes() outcomes { return outcomes{map[string]bool{}, map[string]bool{}} }
+
+// note checks results of which the last one says whether the function has failed.
+func (o outcomes) note(t *testing.T, name string, in arguments, got results, failure results) {
+	t.Helper()
+	ok, says := got[len(got)-1].(bool)
+	if !says {
+		return
+	}
+	if ok {
+		o.done[name] = true
+		return
+	}
+	o.failed[name] = true
+	if !got.equal(failure) {
+		t.Errorf("%s of %v: %v", name, in, got)
+	}
+}
+
+// mustHaveBoth says that each of these functions has failed and has not.
+func (o outcomes) mustHaveBoth(t *testing.T, names ...string) {
+	t.Helper()
+	for _, name := range names {
+		if !o.failed[name] || !o.done[name] {
+			t.Error(name, o.failed[name], o.done[name])
 		}
 	}
 }

@@ -88,12 +88,14 @@ func TestListsThatAreNoHighestWeights(t *testing.T) {
 	})
 }
 
-func TestExamplesOfHighestWeights(t *testing.T) {
-	for _, e := range []struct {
-		name string
-		w    []int
-		want []impl.Term
-	}{
+type weightExample struct {
+	name string
+	w    []int
+	want []impl.Term
+}
+
+func weightExamples() []weightExample {
+	return []weightExample{
 		{"A1", []int{0}, []impl.Term{occurs(1, 0)}},
 		{"A1", []int{3}, []impl.Term{occurs(1, 3), occurs(1, 1), occurs(1, -1), occurs(1, -3)}},
 		{"A2", []int{0, 0}, []impl.Term{occurs(1, 0, 0)}},
@@ -107,7 +109,11 @@ func TestExamplesOfHighestWeights(t *testing.T) {
 		{"F4", []int{0, 0, 0, 0}, []impl.Term{occurs(1, 0, 0, 0, 0)}},
 		{"A1", []int{4}, nil},
 		{"A3", []int{3, 3, 3}, nil},
-	} {
+	}
+}
+
+func TestExamplesOfHighestWeights(t *testing.T) {
+	for _, e := range weightExamples() {
 		mustTerms(t, e, impl.WeightsOf(cartanNamed(t, e.name), e.w), true, e.want)
 	}
 }

@@ -189,25 +189,11 @@ func TestSimpleArgumentsStayAndMemoryIsNew(t *testing.T) {
 
 // TestFailuresOfSimpleFunctions says that all functions that fail give zero values.
 func TestFailuresOfSimpleFunctions(t *testing.T) {
-	failed, done := map[string]bool{}, map[string]bool{}
+	o := noOutcomes()
 	for _, call := range simpleCalls() {
 		for _, in := range simpleInputs() {
-			got := call.run(in)
-			ok, two := got[len(got)-1].(bool)
-			if two && !ok {
-				failed[call.name] = true
-				if !got.equal(call.failure) {
-					t.Errorf("%s of %v: %v", call.name, in, got)
-				}
-			}
-			if two && ok {
-				done[call.name] = true
-			}
+			o.note(t, call.name, in, call.run(in), call.failure)
 		}
 	}
-	for _, name := range []string{"SimpleTable", "CartanSpace", "ReflectionMap", "SerreOk", "IsToral"} {
-		if !failed[name] || !done[name] {
-			t.Error(name, failed[name], done[name])
-		}
-	}
+	o.mustHaveBoth(t, "SimpleTable", "CartanSpace", "ReflectionMap", "SerreOk", "IsToral")
 }

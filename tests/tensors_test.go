@@ -10,12 +10,14 @@ import (
 	"loop.example/g03109/impl"
 )
 
-func TestExamplesOfTensors(t *testing.T) {
-	for _, e := range []struct {
-		name string
-		v, w []int
-		want []impl.Term
-	}{
+type tensorExample struct {
+	name string
+	v, w []int
+	want []impl.Term
+}
+
+func tensorExamples() []tensorExample {
+	return []tensorExample{
 		{"A1", []int{0}, []int{0}, []impl.Term{occurs(1, 0)}},
 		{"A1", []int{0}, []int{3}, []impl.Term{occurs(1, 3)}},
 		{"A1", []int{3}, []int{0}, []impl.Term{occurs(1, 3)}},
@@ -33,7 +35,11 @@ func TestExamplesOfTensors(t *testing.T) {
 		{"A1+A2", []int{1, 1, 0}, []int{1, 0, 1}, []impl.Term{occurs(1, 2, 1, 1), occurs(1, 2, 0, 0), occurs(1, 0, 1, 1), occurs(1, 0, 0, 0)}},
 		// The dimension of the second one is above the limit.
 		{"F4", []int{0, 0, 0, 0}, []int{3, 3, 3, 3}, []impl.Term{occurs(1, 3, 3, 3, 3)}},
-	} {
+	}
+}
+
+func TestExamplesOfTensors(t *testing.T) {
+	for _, e := range tensorExamples() {
 		got, ok := impl.TensorOf(cartanNamed(t, e.name), e.v, e.w)
 		mustTerms(t, e, got, ok, e.want)
 	}
