@@ -190,12 +190,22 @@ func MulMatrices(a Matrix, b Matrix) (Matrix, bool) {
 	return product(a, b), true
 }
 
+// product takes residues once for each element, which would be most of the work
+// otherwise: sums of products stay far below the greatest integer.
 func product(a Matrix, b Matrix) Matrix {
 	m := zeros(a.P, a.Rows, b.Cols)
 	for i := range a.Rows {
 		row := rowOf(m, i)
 		for k, x := range rowOf(a, i) {
-			addToRow(row, x, rowOf(b, k), a.P)
+			if x == 0 {
+				continue
+			}
+			for j, y := range rowOf(b, k) {
+				row[j] += x * y
+			}
+		}
+		for j := range row {
+			row[j] %= a.P
 		}
 	}
 	return m

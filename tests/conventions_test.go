@@ -160,12 +160,14 @@ func (r results) clone() results {
 	return copied
 }
 
-func copyEach[T any](list []T, copyOne func(x T) T) []T {
-	var copied []T
+func copyEach[T any](list []T, copyOne func(x T) T) []T { return mapEach(list, copyOne) }
+
+func mapEach[S, T any](list []S, f func(x S) T) []T {
+	var mapped []T
 	for _, x := range list {
-		copied = append(copied, copyOne(x))
+		mapped = append(mapped, f(x))
 	}
-	return copied
+	return mapped
 }
 
 func (r results) equal(s results) bool { return reflect.DeepEqual(r.clone(), s.clone()) }
